@@ -1,0 +1,1 @@
+"""Bundlekinds: substitutes at all prices and in all markets."""
