@@ -6,14 +6,7 @@ import unittest
 from bundlekinds.bundles import (all_bundles, bundle_text, common, goods_of, is_bundle, read_bundle, rest, splits,
                                  union)
 from bundlekinds.errors import BadCount, BadName, BadText, DuplicateName
-
-FIVE = ("a", "b1", "c", "d9", "e")
-
-
-def plain_bundles(goods):
-    """Return all bundles of the goods in order, worked out in another way than the program does."""
-    found = [tuple(good for at, good in enumerate(goods) if number >> at & 1) for number in range(2 ** len(goods))]
-    return sorted(found, key=lambda bundle: (len(bundle), bundle))
+from tests.samples import FIVE, plain_bundles
 
 
 class GoodsOf(unittest.TestCase):

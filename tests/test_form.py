@@ -20,6 +20,69 @@ FUNCTIONS = {
         "bundle_text": ["bundle"],
         "read_bundle": ["text"],
     },
+    "prices.py": {
+        "gain": ["table", "prices", "bundle"],
+        "best_gain": ["table", "prices"],
+        "wanted": ["table", "prices"],
+        "is_wanted": ["table", "prices", "bundle"],
+    },
+    "kinds.py": {
+        "failures": ["table"],
+        "first_failure": ["table"],
+        "is_substitutes": ["table"],
+        "check_failure": ["table", "failure"],
+    },
+    "walks.py": {
+        "steps": ["table", "prices", "bundle"],
+        "walk": ["table", "prices", "bundle"],
+        "is_stuck": ["table", "prices", "bundle"],
+        "check_stuck": ["table", "stuck"],
+        "stuck_case": ["table"],
+    },
+}
+# For each file that has landed: its classes with their methods, and the names of the arguments behind the first one.
+CLASSES = {
+    "tables.py": {
+        "Table": {
+            "__init__": ["goods", "numbers"],
+            "goods": [],
+            "numbers": [],
+            "__call__": ["bundle"],
+            "plain": ["amounts"],
+            "one_of": ["amounts"],
+            "some_of": ["amounts", "most"],
+            "nested": ["goods", "rows"],
+            "read": ["text"],
+            "restricted": ["goods"],
+            "ahead": ["bundle"],
+            "plus": ["amounts"],
+            "times": ["factor"],
+            "__eq__": ["other"],
+            "__str__": [],
+        },
+    },
+    "prices.py": {
+        "Prices": {
+            "__init__": ["amounts", "*", "unit"],
+            "goods": [],
+            "unit": [],
+            "__getitem__": ["good"],
+            "amounts": [],
+            "total": ["bundle"],
+            "raised": ["good", "by"],
+            "in_unit": ["unit"],
+            "covers": ["other"],
+            "__eq__": ["other"],
+        },
+    },
+    "walks.py": {
+        "Stuck": {"__init__": ["prices", "bundle"], "prices": [], "bundle": []},
+    },
+}
+# The methods that are no plain ones.
+DECORATORS = {
+    "property": ["goods", "numbers", "unit", "prices", "bundle"],
+    "classmethod": ["plain", "one_of", "some_of", "nested", "read"],
 }
 LIBRARY = ("collections", "heapq", "itertools", "math", "__future__")
 
@@ -29,15 +92,39 @@ def trees():
     return [(path.name, ast.parse(path.read_text())) for path in sorted(FOLDER.glob("*.py"))]
 
 
+def arguments_of(function):
+    """Return the names of the arguments of a function; those after a star are passed by name only."""
+    names = [arg.arg for arg in function.args.args]
+    if function.args.kwonlyargs:
+        names += ["*"] + [arg.arg for arg in function.args.kwonlyargs]
+    return names
+
+
+def decorators_of(function):
+    """Return the names of the decorators of a function."""
+    return [ast.unparse(item) for item in function.decorator_list]
+
+
 class TheForm(unittest.TestCase):
     def test_the_functions_of_the_interface_are_defined_in_their_files(self):
         found = dict(trees())
         for name, functions in FUNCTIONS.items():
-            defined = {item.name: [arg.arg for arg in item.args.args] for item in found[name].body
-                       if isinstance(item, ast.FunctionDef)}
+            defined = {item.name: arguments_of(item) for item in found[name].body if isinstance(item, ast.FunctionDef)}
             for function, arguments in functions.items():
                 with self.subTest(file=name, function=function):
                     self.assertEqual(defined.get(function), arguments)
+
+    def test_the_classes_of_the_interface_define_their_methods_in_their_files(self):
+        found = dict(trees())
+        for name, classes in CLASSES.items():
+            bodies = {item.name: item.body for item in found[name].body if isinstance(item, ast.ClassDef)}
+            for title, methods in classes.items():
+                defined = {item.name: item for item in bodies[title] if isinstance(item, ast.FunctionDef)}
+                for method, arguments in methods.items():
+                    with self.subTest(file=name, title=title, method=method):
+                        self.assertEqual(arguments_of(defined[method])[1:], arguments)
+                        expected = [word for word, those in DECORATORS.items() if method in those]
+                        self.assertEqual(decorators_of(defined[method]), expected)
 
     def test_the_folder_holds_only_python_files(self):
         names = [path.name for path in FOLDER.iterdir() if path.name != "__pycache__"]
