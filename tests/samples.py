@@ -98,6 +98,13 @@ def gains_of(table, prices):
     return {bundle: worths[bundle] * prices.unit - sum(amounts[good] for good in bundle) for bundle in worths}
 
 
+def wanted_of(table, prices):
+    """Return the list of the bundles with the greatest gain, in order."""
+    gains = gains_of(table, prices)
+    best = max(gains.values())
+    return [bundle for bundle in gains if gains[bundle] == best]
+
+
 def gaining(table, prices, bundle):
     """Return the list of the bundles to which gaining steps lead from the bundle, in order."""
     gains = gains_of(table, prices)

@@ -39,6 +39,21 @@ FUNCTIONS = {
         "check_stuck": ["table", "stuck"],
         "stuck_case": ["table"],
     },
+    "rises.py": {
+        "kept": ["table", "before", "after", "bundle"],
+        "check_rise": ["table", "rise"],
+        "rise_case": ["table"],
+    },
+    "programs.py": {"best_mix": ["rows", "bounds", "worths"]},
+    "clearing.py": {
+        "check_clearing": ["market", "prices", "sharing"],
+        "check_mixture": ["market", "mixture"],
+        "check_paper": ["market", "paper"],
+        "marginal_prices": ["market"],
+        "higher": ["one", "other"],
+        "lower": ["one", "other"],
+        "decide": ["market"],
+    },
 }
 # For each file that has landed: its classes with their methods, and the names of the arguments behind the first one.
 CLASSES = {
@@ -78,10 +93,41 @@ CLASSES = {
     "walks.py": {
         "Stuck": {"__init__": ["prices", "bundle"], "prices": [], "bundle": []},
     },
+    "rises.py": {
+        "Rise": {
+            "__init__": ["before", "after", "bundle", "good"],
+            "before": [],
+            "after": [],
+            "bundle": [],
+            "good": [],
+        },
+    },
+    "markets.py": {
+        "Market": {
+            "__init__": ["tables"],
+            "buyers": [],
+            "goods": [],
+            "__getitem__": ["buyer"],
+            "is_sharing": ["value"],
+            "worth_of": ["sharing"],
+            "best": ["bundle"],
+            "joint": [],
+            "restricted": ["goods"],
+            "with_buyer": ["name", "table"],
+            "__contains__": ["buyer"],
+            "__len__": [],
+            "__eq__": ["other"],
+        },
+    },
+    "clearing.py": {
+        "Mixture": {"__init__": ["unit", "weights"], "unit": [], "weights": []},
+        "Verdict": {"__init__": ["paper"], "kind": [], "paper": []},
+    },
 }
 # The methods that are no plain ones.
 DECORATORS = {
-    "property": ["goods", "numbers", "unit", "prices", "bundle"],
+    "property": ["goods", "numbers", "unit", "prices", "bundle", "before", "after", "good", "buyers", "weights", "kind",
+                 "paper"],
     "classmethod": ["plain", "one_of", "some_of", "nested", "read"],
 }
 LIBRARY = ("collections", "heapq", "itertools", "math", "__future__")

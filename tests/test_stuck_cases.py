@@ -5,30 +5,10 @@ from bundlekinds.kinds import is_substitutes
 from bundlekinds.prices import Prices
 from bundlekinds.tables import Table
 from bundlekinds.walks import Stuck, check_stuck, stuck_case
-from tests.samples import (FIVE, MILLION, SMALL_NUMBERS, Case, any_values, capped_table, chance_of, curved_table,
-                           failures_of, plain_bundles, rising_table, stuck_at, substitutes_tables, table_by,
-                           worths_of)
-
-
-def covering_table(chance, goods, most):
-    """Return a table of what the goods cover together: its pairs hold, its triples often fail."""
-    places = [chance.randint(0, most) for _ in range(7)]
-    covers = {good: [at for at in range(7) if chance.random() < 0.5] for good in goods}
-    return table_by(goods, lambda bundle: sum(worth for at, worth in enumerate(places)
-                                              if any(at in covers[good] for good in bundle)))
-
-
-def shaken_table(chance, table, size):
-    """Return a table that differs from the given one in the worths of bundles of at least so many goods.
-
-    Then the first failure, if the given table has none, stands over a bundle of at least so many goods less two.
-    """
-    worths = worths_of(table)
-    for bundle in plain_bundles(table.goods)[1:]:
-        if len(bundle) >= size:
-            least = max(worths[tuple(good for good in bundle if good != other)] for other in bundle)
-            worths[bundle] = max(least, worths[bundle] + chance.choice([-2, -1, 0, 0, 0, 1]))
-    return table_by(table.goods, worths.get)
+from tests.families import (apart_tables, great_tables, pair_tables, rough_tables, shaken_tables, small_tables,
+                            smooth_tables, triple_tables)
+from tests.samples import (FIVE, Case, any_values, capped_table, chance_of, failures_of, plain_bundles, rising_table,
+                           stuck_at)
 
 
 class StuckCases(Case):
@@ -62,80 +42,39 @@ class StuckCases(Case):
         self.assertIs(check_stuck(both, stuck_case(both)), True)
 
     def test_every_small_table_of_two_and_three_goods(self):
-        for x in range(4):
-            for y in range(4):
-                for more in range(max(x, y), 9):
-                    self.check_case(Table(["x", "y"], [x, y, more]))
-        kinds = self.check_kinds([Table(["x", "y", "z"], numbers) for numbers in SMALL_NUMBERS], ())
+        kinds = self.check_kinds(small_tables(), ())
         self.assertEqual(set(kinds), {(), ("pair",), ("triple",), ("pair", "triple")})
 
     def test_failures_of_pairs_alone(self):
-        chance = chance_of("pairs")
-        for many in range(2, 6):
-            for most in [1, 9, 100000]:
-                for extra in [[0, 0, 0, 0, 0, 1], [0, 1, 3, 6, 10, 15], [0, 5, 10, 15, 20, 26]]:
-                    extras = extra[:many] + [extra[many] + most]
-                    table = curved_table(FIVE[:many], [chance.randint(0, most) for _ in range(many)], extras)
-                    self.check_kinds([table], ("pair",))
+        for table in pair_tables(chance_of("pairs")):
+            self.check_kinds([table], ("pair",))
 
     def test_failures_of_triples_alone(self):
-        chance = chance_of("triples")
-        for many in range(3, 6):
-            for most in [2, 9, 1000, 100000]:
-                tables = []
-                for _ in range(12):
-                    amounts = [chance.randint(1, most) for _ in range(many)]
-                    tables.append(capped_table(FIVE[:many], amounts, chance.randint(1, sum(amounts))))
-                    tables.append(covering_table(chance, FIVE[:many], most))
-                kinds = self.check_kinds(tables, ("triple",))
-                self.assertLessEqual(set(kinds), {(), ("triple",)})
+        kinds = self.check_kinds(triple_tables(chance_of("triples")), ("triple",))
+        self.assertEqual(set(kinds), {(), ("triple",)})
 
     def test_failures_of_both(self):
-        chance = chance_of("both")
-        for many in range(3, 6):
-            for most in [1, 2, 9, 1000, 200000]:
-                self.check_kinds([rising_table(chance, FIVE[:many], most) for _ in range(12)], ("pair", "triple"))
+        self.check_kinds(rough_tables(chance_of("both")), ("pair", "triple"))
 
     def test_worths_far_apart_from_good_to_good(self):
-        chance = chance_of("apart")
-        amounts = [1, 30, 900, 30000, 900000]
-        for many in range(3, 6):
-            for _ in range(20):
-                some = chance.sample(amounts, many)
-                worths = sum(some)
-                cap = min(MILLION, worths - chance.choice(some) // 2 - 1)
-                tables = [capped_table(FIVE[:many], some, cap), capped_table(FIVE[:many], some, max(some))]
-                bonus = {good: chance.choice([0, 1, 60000]) for good in FIVE[:many]}
-                tables.append(capped_table(FIVE[:many], [amount // 2 for amount in some], cap // 2).plus(bonus))
-                for table in tables:
-                    self.check_case(table)
+        self.check_kinds(apart_tables(chance_of("apart")), ("triple",))
 
     def test_the_greatest_worths(self):
-        self.check_kinds([Table(["x", "y"], [0, 0, MILLION]), Table(["x", "y"], [1, MILLION - 2, MILLION])], ("pair",))
-        self.check_kinds([Table(["x", "y", "z"], [500000, 500000, 500001, MILLION, MILLION, MILLION, MILLION])],
-                         ("triple",))
-        self.check_kinds([Table(FIVE, [0] * 30 + [MILLION]), Table(FIVE, [0] * 25 + [MILLION] * 6)], ("pair",))
+        self.check_kinds(great_tables(), ("triple",))
 
     def test_failures_over_bundles_that_are_not_empty(self):
-        chance = chance_of("shaken")
         places = set()
-        for many in range(3, 6):
-            for size in range(3, many + 1):
-                for _ in range(25):
-                    for table in substitutes_tables(chance, FIVE[:many], 9):
-                        found = self.check_case(shaken_table(chance, table, size))
-                        if found:
-                            self.assertGreaterEqual(len(found[0][1]), size - 2)
-                            places.add((found[0][0], len(found[0][1])))
+        for size, table in shaken_tables(chance_of("shaken")):
+            found = self.check_case(table)
+            if found:
+                self.assertGreaterEqual(len(found[0][1]), size - 2)
+                places.add((found[0][0], len(found[0][1])))
         self.assertEqual(places, {("pair", 1), ("pair", 2), ("pair", 3), ("triple", 1), ("triple", 2)})
 
     def test_no_case_for_substitutes(self):
-        chance = chance_of("none")
-        for many in range(1, 6):
-            for most in [0, 1, 7, 20000]:
-                for table in substitutes_tables(chance, FIVE[:many], most):
-                    self.check_raises(IsSubstitutes, {}, stuck_case, table)
-                    self.check_raises(IsSubstitutes, {}, stuck_case, table=table)
+        for table in smooth_tables(chance_of("none")):
+            self.check_raises(IsSubstitutes, {}, stuck_case, table)
+            self.check_raises(IsSubstitutes, {}, stuck_case, table=table)
 
 
 class CheckStuck(Case):
