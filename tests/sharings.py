@@ -3,6 +3,7 @@
 import itertools
 
 from bundlekinds.markets import Market
+from bundlekinds.prices import Prices
 from bundlekinds.tables import Table
 from tests.samples import plain_bundles, rising_table, substitutes_tables, wanted_of, worths_of
 
@@ -63,6 +64,18 @@ def clears_with(market, prices, sharing):
     if any(sharing[buyer] not in wanted_of(market[buyer], prices) for buyer in market.buyers):
         return False
     return all(good in given_in(sharing) or prices.amounts()[good] == 0 for good in market.goods)
+
+
+def grid(goods, most, units=(1, 2)):
+    """Return all prices of the goods up to the most amounts, with each of the units."""
+    return [Prices(dict(zip(goods, amounts)), unit=unit) for unit in units
+            for amounts in itertools.product(range(most * unit + 1), repeat=len(goods))]
+
+
+def clearing_grid(market, most, units=(1, 2)):
+    """Return the prices of the grid that clear the market."""
+    sharing = best_sharings(market)[0]
+    return [prices for prices in grid(market.goods, most, units) if clears_with(market, prices, sharing)]
 
 
 def is_mixture_of(market, unit, weights):

@@ -10,26 +10,14 @@ from bundlekinds.markets import Market
 from bundlekinds.prices import Prices
 from bundlekinds.tables import Table
 from tests.samples import FIVE, MILLION, Case, any_values, chance_of, plain_bundles, some_prices
-from tests.sharings import (all_sharings, best_sharings, clears_with, rough_market, smooth_market, torn_market,
-                            worths_within)
+from tests.sharings import (all_sharings, best_sharings, clearing_grid, clears_with, rough_market, smooth_market,
+                            torn_market, worths_within)
 
 CALM = {"ann": Table.one_of({"x": 5, "y": 4}), "bob": Table.plain({"x": 3, "y": 1})}
 
 
 def cost(prices, good):
     return Fraction(prices.amounts()[good], prices.unit)
-
-
-def grid(goods, most, units=(1, 2)):
-    """Return all prices of the goods up to the most amounts, with each of the units."""
-    return [Prices(dict(zip(goods, amounts)), unit=unit) for unit in units
-            for amounts in itertools.product(range(most * unit + 1), repeat=len(goods))]
-
-
-def clearing_grid(market, most, units=(1, 2)):
-    """Return the prices of the grid that clear the market."""
-    sharing = best_sharings(market)[0]
-    return [prices for prices in grid(market.goods, most, units) if clears_with(market, prices, sharing)]
 
 
 class CheckClearing(Case):

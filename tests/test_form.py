@@ -54,6 +54,25 @@ FUNCTIONS = {
         "lower": ["one", "other"],
         "decide": ["market"],
     },
+    "breakers.py": {
+        "wants_one": ["table"],
+        "check_break": ["table", "told"],
+        "broken_market": ["table", "told"],
+        "breakers": ["table"],
+    },
+    "exchanges.py": {
+        "exchange": ["table", "one", "other", "good"],
+        "exchange_case": ["table"],
+        "check_exchange": ["table", "case"],
+        "linked": ["table", "prices", "one", "other"],
+    },
+    "levels.py": {
+        "level": ["market", "prices"],
+        "climb": ["market"],
+        "least_prices": ["market"],
+        "cost_range": ["market", "good"],
+        "prices_with": ["market", "good", "amount", "unit"],
+    },
 }
 # For each file that has landed: its classes with their methods, and the names of the arguments behind the first one.
 CLASSES = {
@@ -123,11 +142,30 @@ CLASSES = {
         "Mixture": {"__init__": ["unit", "weights"], "unit": [], "weights": []},
         "Verdict": {"__init__": ["paper"], "kind": [], "paper": []},
     },
+    "breakers.py": {
+        "Break": {"__init__": ["factor", "others", "mixture"], "factor": [], "others": [], "mixture": []},
+    },
+    "books.py": {
+        "Book": {
+            "__init__": ["goods"],
+            "goods": [],
+            "order": [],
+            "drop": ["name"],
+            "market": [],
+            "verdict": [],
+            "tried": ["changes"],
+            "undo": [],
+            "__getitem__": ["name"],
+            "__setitem__": ["name", "table"],
+            "__contains__": ["name"],
+            "__len__": [],
+        },
+    },
 }
 # The methods that are no plain ones.
 DECORATORS = {
     "property": ["goods", "numbers", "unit", "prices", "bundle", "before", "after", "good", "buyers", "weights", "kind",
-                 "paper"],
+                 "paper", "factor", "others", "mixture", "order"],
     "classmethod": ["plain", "one_of", "some_of", "nested", "read"],
 }
 LIBRARY = ("collections", "heapq", "itertools", "math", "__future__")
