@@ -108,10 +108,10 @@ def decide(market):
     A linear program tells the best mixture: its rows give each buyer, and each good, at most the unit. If it is worth
     no more than its unit times a best sharing, then the costs of the goods' rows are prices that clear the market.
     """
-    pairs = [(buyer, bundle) for buyer in market.buyers for bundle in filled_bundles(market.goods)]
-    rows = [[1 if buyer == name else 0 for buyer, _ in pairs] for name in market.buyers]
-    rows.extend([[1 if good in bundle else 0 for _, bundle in pairs] for good in market.goods])
-    worths = [market[buyer](bundle) for buyer, bundle in pairs]
+    pairs = [(name, bundle) for name in market.buyers for bundle in filled_bundles(market.goods)]
+    rows = [[1 if pair[0] == name else 0 for pair in pairs] for name in market.buyers]
+    rows.extend([[1 if good in pair[1] else 0 for pair in pairs] for good in market.goods])
+    worths = [market[name](bundle) for name, bundle in pairs]
     _, unit, numbers, costs = best_mix(rows, [1] * len(rows), worths)
     best, sharing = market.best()
     if sum([number * worth for number, worth in zip(numbers, worths)]) == unit * best:
